@@ -1,0 +1,1 @@
+"""Facts that meet the version of their day, however late it comes."""
