@@ -62,6 +62,20 @@ def attributes_of(plan, dimension):
     return None
 
 
+def attribute_place(plan, dimension, attribute):
+    """Tell at which place a dimension has an attribute, or None where the plan has no such one."""
+    attributes = attributes_of(plan, dimension)
+    if attributes is None:
+        return None
+    names = [name for name, way in attributes]
+    return names.index(attribute) if attribute in names else None
+
+
+def things_named(plan, keys):
+    """List the things (dimension, key) that a fact's keys name, in the plan's order."""
+    return [(dimension, key) for (dimension, attributes), key in zip(plan.dimensions(), keys)]
+
+
 def look(plan, row):
     """Refuse a row that does not have the form that the plan asks for."""
     if not has_form(plan, row):

@@ -15,8 +15,10 @@ def stretches(plan, dimension, kinds):
     cuts = [day for day, values in openers]
     # The first version is opened by no kind: it lies ahead of all that is known.
     opened_with = [None] + [values for day, values in openers]
+    # Only the way day tells versions apart, so the values of the others are found once.
+    steady = [steady_value(way, [values[at] for day, values in ordered]) for at, way in enumerate(ways)]
     return [
-        (begin, end, version_values(ways, ordered, opening))
+        (begin, end, version_values(ways, steady, opening))
         for begin, end, opening in zip([None] + cuts, cuts + [None], opened_with)
     ]
 
@@ -35,16 +37,18 @@ def changes_day(ways, old, new):
     return any([way == "day" and old[at] != new[at] for at, way in enumerate(ways)])
 
 
-def version_values(ways, ordered, opening):
+def version_values(ways, steady, opening):
     """Tell the values of the version that a kind with the values `opening` begins."""
-    return tuple([value_by_way(way, at, ordered, opening) for at, way in enumerate(ways)])
+    return tuple([day_value(at, opening) if way == "day" else steady[at] for at, way in enumerate(ways)])
 
 
-def value_by_way(way, at, ordered, opening):
-    """Tell a version's value of the attribute that stands at this place."""
-    if way == "day":
-        return None if opening is None else opening[at]
-    column = [values[at] for day, values in ordered]
+def day_value(at, opening):
+    """Tell what the kind that begins a version has at this place, None where no kind does."""
+    return None if opening is None else opening[at]
+
+
+def steady_value(way, column):
+    """Tell the value that all versions have, by the values of the kinds by rising days."""
     if way == "before":
         return last_and_unlike(column)
     if not column:

@@ -70,6 +70,10 @@ class Refusals(unittest.TestCase):
         one, two = errors.NoFact("one"), errors.NoFact("two")
         self.assertEqual((one.what, two.what), ("one", "two"))
 
+    def test_each_tells_the_name_of_its_class(self):
+        for name in REFUSALS + ("DayError",):
+            self.assertEqual(getattr(errors, name)("ax").name, name)
+
     def test_caught_as_day_error(self):
         for name in REFUSALS:
             with self.assertRaises(errors.DayError) as caught:
